@@ -1,0 +1,1 @@
+"""Clonewood: a wood of files in pieces that many makes share."""
