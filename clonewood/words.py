@@ -5,6 +5,7 @@ from clonewood.errors import NoPath
 SIGNS = "abcdefghijklmnopqrstuvwxyz0123456789"
 MOST_SIGNS = 8
 MOST_NAMES = 6
+GREATEST = 4294967295
 
 
 def is_whole(thing):
@@ -14,6 +15,10 @@ def is_whole(thing):
 
 def is_within(thing, low, high):
     return is_whole(thing) and low <= thing <= high
+
+
+def is_rising(things):
+    return all([one < other for one, other in zip(things, things[1:])])
 
 
 def is_word(thing):
