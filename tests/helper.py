@@ -42,6 +42,21 @@ class WoodCase(unittest.TestCase):
         self.same(ask(), kept)
 
 
+def spread(row):
+    """Which cell of which piece each cell of a file is: the words of promise 20, one by one."""
+    cells = {}
+    for at, long, place, skip in row:
+        for step in range(long):
+            cells[at + step] = (place, skip + step)
+    return cells
+
+
+def is_tidy(row):
+    return not any(
+        one[0] + one[1] == two[0] and one[2] == two[2] and one[3] + one[1] == two[3] for one, two in zip(row, row[1:])
+    )
+
+
 def folder(entries, born=1, limit=0):
     """A folder knot of a dict of names with (kind, place)."""
     return FolderKnot(born, limit, tuple((name, *entries[name]) for name in sorted(entries)))

@@ -6,20 +6,11 @@ import unittest
 from clonewood.stretches import (
     cells_of, gaps, is_row, laid, parts, places_in, shifted, split_up, tidied, without,
 )
-from helper import NO_NUMBERS, WoodCase
+from helper import NO_NUMBERS, WoodCase, is_tidy, spread
 
 # Cells 2 to 5 and 9 to 16 of a file, with holes ahead, between and behind; the last two lie side by side.
 PLAIN = [(2, 4, 7, 1), (9, 3, 5, 0), (12, 5, 7, 3)]
 FULL = [(0, 8, 2, 0), (8, 8, 3, 0), (16, 8, 4, 0), (24, 8, 5, 0), (32, 8, 6, 0)]
-
-
-def spread(row):
-    """Which cell of which piece each cell of a file is: the words of promise 20, one by one."""
-    cells = {}
-    for at, long, place, skip in row:
-        for step in range(long):
-            cells[at + step] = (place, skip + step)
-    return cells
 
 
 def random_row(chance, low=0, high=40):
@@ -41,12 +32,6 @@ def random_row(chance, low=0, high=40):
 def random_rows(many=300):
     chance = random.Random(20)
     return [(chance, random_row(chance)) for at in range(many)]
-
-
-def is_tidy(row):
-    return not any(
-        one[0] + one[1] == two[0] and one[2] == two[2] and one[3] + one[1] == two[3] for one, two in zip(row, row[1:])
-    )
 
 
 class RowCase(WoodCase):
