@@ -1,6 +1,6 @@
 """Heads, and the tops by which a floor tells them."""
 
-from clonewood.errors import NoPiece, Spoilt
+from clonewood.errors import NoPiece, NoWood, Spoilt
 from clonewood.stretches import is_tree_place
 from clonewood.words import GREATEST, is_rising, is_within, is_word
 
@@ -18,6 +18,17 @@ class Head:
 
     def kind(self):
         return "growth" if self.stamp == 0 else "make"
+
+    def told(self):
+        return (self.name, self.line, self.stamp, self.root, self.word, self.mark)
+
+
+def head_of(told):
+    return Head(told[0], told[1], told[2], told[3], told[4], told[5])
+
+
+def top_of(stamp, word, lines, heads):
+    return ("top", stamp, word, tuple(lines), tuple(heads))
 
 
 def is_number(thing):
@@ -80,3 +91,10 @@ def top_at(floor, place):
 def tops_of(floor):
     tops = [top_at(floor, 0), top_at(floor, 1)]
     return sorted([top for top in tops if top is not None], key=lambda top: top[1], reverse=True)
+
+
+def need_tops(floor):
+    tops = tops_of(floor)
+    if not tops:
+        raise NoWood()
+    return tops

@@ -85,9 +85,14 @@ def is_over(look, place):
     return limit != 0 and weight(look, place) > limit
 
 
+def folders_in(look, root):
+    below = [(path, place) for path, kind, place in listing(look, root) if kind == "folder"]
+    return [("", root)] + below
+
+
 def over(look, root):
-    for path, kind, place in [("", "folder", root)] + listing(look, root):
-        if kind == "folder" and is_over(look, place):
+    for path, place in folders_in(look, root):
+        if is_over(look, place):
             return (path, weight(look, place))
     return None
 
@@ -100,6 +105,9 @@ def size_at(look, root, path):
     return seek_file(look, root, path).size
 
 
-def cells_at(look, root, path):
-    knot = seek_file(look, root, path)
+def cells_in(look, knot):
     return cells_of(knot.row, knot.size, lambda place: look(place).cells)
+
+
+def cells_at(look, root, path):
+    return cells_in(look, seek_file(look, root, path))

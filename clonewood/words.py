@@ -1,6 +1,6 @@
 """What is a whole number, a word, a path."""
 
-from clonewood.errors import NoPath
+from clonewood.errors import NoPath, NoWord
 
 SIGNS = "abcdefghijklmnopqrstuvwxyz0123456789"
 MOST_SIGNS = 8
@@ -25,6 +25,11 @@ def is_word(thing):
     if not isinstance(thing, str) or not 1 <= len(thing) <= MOST_SIGNS:
         return False
     return all([sign in SIGNS for sign in thing])
+
+
+def need_word(thing):
+    if not is_word(thing):
+        raise NoWord(thing)
 
 
 def names_of(path):

@@ -2,7 +2,7 @@
 
 import unittest
 
-from clonewood.errors import WoodError
+from clonewood.errors import Down, WoodError
 from clonewood.knots import CellsKnot, FileKnot, FolderKnot
 
 GREATEST = 4294967295
@@ -40,6 +40,17 @@ class WoodCase(unittest.TestCase):
         first.append("more")
         first.reverse()
         self.same(ask(), kept)
+
+    def all_down(self, wood):
+        """Every method of the wood refuses with Down, whatever is handed in."""
+        for call, *handed in calls_of(wood):
+            self.refused(Down, [], call, *handed)
+
+    def kept(self, wood, error, fields, call, *handed):
+        """The call is refused, changes nothing of the wood and its floor, and nothing of what was handed in."""
+        before = [all_told(wood), wood.floor.writes(), wood.floor.is_dark(), repr(handed)]
+        self.refused(error, fields, call, *handed)
+        self.same([all_told(wood), wood.floor.writes(), wood.floor.is_dark(), repr(handed)], before)
 
 
 def spread(row):
@@ -82,3 +93,70 @@ def small_forest():
         21: CellsKnot(1, (9, 10)),
         22: CellsKnot(1, (11, 12, 999999)),
     }
+
+
+def points_in(stuff):
+    """The places at which a piece points, by the words of promises 30 and 31."""
+    if stuff[0] == "folder":
+        return {place for name, kind, place in stuff[3]}
+    return {place for at, long, place, skip in stuff[3]} if stuff[0] == "file" else set()
+
+
+def comes_to(floor, roots):
+    """All places to which one comes from the roots, by the floor alone."""
+    seen = set()
+    waiting = list(roots)
+    while waiting:
+        place = waiting.pop()
+        if place not in seen:
+            seen.add(place)
+            waiting.extend(points_in(floor.read(place)))
+    return seen
+
+
+def read_tree(floor, root, path=""):
+    """What a tree reads as, by the floor alone: a dict of paths, folders as None, files as lists of cells."""
+    found = {path: None}
+    for name, kind, place in floor.read(root)[3]:
+        below = f"{path}/{name}" if path else name
+        if kind == "folder":
+            found.update(read_tree(floor, place, below))
+        else:
+            stuff = floor.read(place)
+            cells = spread(stuff[3])
+            found[below] = [floor.read(cells[at][0])[2][cells[at][1]] if at in cells else 0 for at in range(stuff[2])]
+    return found
+
+
+def read_head(wood, name, path=""):
+    """What a head reads as, by what the wood tells of its paths."""
+    found = {}
+    if wood.kind_at(name, path) == "file":
+        found[path] = wood.cells_at(name, path)
+        assert len(found[path]) == wood.size_at(name, path)
+        return found
+    found[path] = None
+    for word in wood.names_at(name, path):
+        found.update(read_head(wood, name, f"{path}/{word}" if path else word))
+    return found
+
+
+def all_told(wood):
+    """All that a wood tells of itself, its heads and its places."""
+    told = [wood.word, wood.stamp, wood.heads(), wood.lying(), wood.resting(), wood.spare()]
+    for name, kind, root in wood.heads():
+        told.append(wood.stands_on(name) if kind == "growth" else wood.mark_of(name))
+    return told + [read_head(wood, name) for name, kind, root in wood.heads()]
+
+
+def calls_of(wood, deed=None):
+    """Every method of a wood that the interface names, each with something that it would refuse, or not."""
+    return [
+        (wood.folder, "a", "x"), (wood.put, "a", "x", 0, [1]), (wood.trim, "a", "x", 99), (wood.hollow, "a", "", 0, 1),
+        (wood.share, "a", "x", 0, 1, "y", 0), (wood.twin, "a", "x", "y"), (wood.drop, "zz", "x"), (wood.move, "a", 5, 6),
+        (wood.set_limit, "a", "", 0), (wood.make, "a", "new"), (wood.clone, "nobody", "B!"), (wood.sprout, None),
+        (wood.go, "a"), (wood.take_in, "a", deed, "a", "", 0), (wood.need_take, "nobody", ""), (wood.begin, "a"),
+        (wood.heads,), (wood.root_of, "a"), (wood.mark_of, "a"), (wood.stands_on, []), (wood.kind_at, "a", ""),
+        (wood.names_at, "a", ""), (wood.size_at, "a", None), (wood.cells_at, "a", "A"), (wood.knot_at, -1),
+        (wood.piece, 10000), (wood.lying,), (wood.resting,), (wood.spare,),
+    ]

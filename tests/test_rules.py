@@ -125,6 +125,49 @@ def faults_of_plain_names(sheet):
     return faults
 
 
+def faults_of_forms(sheet):
+    """L13: no two lambdas with the same parameters on one line; no written set of three or more numbers."""
+    told = [(node.lineno, ast.dump(node.args)) for node in sheet.all(ast.Lambda)]
+    faults = [f"L13 line {line}" for line, parameters in set(told) if told.count((line, parameters)) > 1]
+    return faults + ["L13 set" for node in sheet.all(ast.Set) if len(node.elts) > 2]
+
+
+def faults_of_tops(sheet):
+    """L3 and L15: what stands at a file's top is plain, and no list or dict lies within a list or a dict there."""
+    faults = []
+    for node in sheet.tree.body:
+        if isinstance(node, ast.Assign):
+            inner = [part for part in ast.walk(node.value) if isinstance(part, (ast.List, ast.Dict))]
+            faults += ["L15 within"] if any(part is not node.value for part in inner) else []
+            faults += ["L3"] if any(isinstance(part, (ast.Call, ast.Lambda)) for part in ast.walk(node.value)) else []
+        elif not isinstance(node, (ast.FunctionDef, ast.ClassDef, ast.ImportFrom)):
+            text = isinstance(node, ast.Expr) and isinstance(node.value, ast.Constant)
+            faults += [] if text and node is sheet.tree.body[0] else ["L3"]
+    return faults
+
+
+def is_changing(call):
+    return called(call) in ("append", "clear", "extend", "insert", "pop", "remove", "reverse", "setdefault", "update")
+
+
+def faults_of_kept(sheet):
+    """L15: a list or dict of a file's top is only read; L23: what a loop walks isn't changed in it."""
+    kept = [node.targets[0].id for node in sheet.tree.body if isinstance(node, ast.Assign)
+            and isinstance(node.value, (ast.List, ast.Dict))]
+    faults = []
+    for call in sheet.all(ast.Call):
+        if isinstance(call.func, ast.Attribute) and is_changing(call) and getattr(call.func.value, "id", "") in kept:
+            faults.append("L15 changed")
+        faults += ["L15 handed on" for part in call.args if getattr(part, "id", "") in kept
+                   and called(call) not in ("list", "dict", "len", "sorted", "tuple")]
+    for loop in sheet.all(ast.For):
+        walked = {ast.dump(node) for node in ast.walk(loop.iter) if isinstance(node, (ast.Name, ast.Attribute))}
+        for call in [node for part in loop.body for node in ast.walk(part) if isinstance(node, ast.Call)]:
+            if isinstance(call.func, ast.Attribute) and is_changing(call):
+                faults += ["L23 changed"] if ast.dump(call.func.value) in walked else []
+    return faults
+
+
 def faults_between(sheets):
     """What is seen only where all files lie side by side."""
     methods = {name for sheet in sheets for name in sheet.methods if name != "__init__"}
@@ -164,6 +207,7 @@ def faults_of(texts):
     faults = faults_between(sheets)
     for sheet in sheets:
         found = faults_of_names(sheet) + faults_of_calls(sheet) + faults_of_plain_names(sheet)
+        found += faults_of_forms(sheet) + faults_of_tops(sheet) + faults_of_kept(sheet)
         faults += [f"{sheet.name}: {fault}" for fault in found]
     return faults
 
@@ -185,6 +229,10 @@ class TheRules(unittest.TestCase):
             "def f(a):\n    for b in set(a):\n        pass\n", "def f(a):\n    return sorted(set(a), reverse=True)\n",
             "def f(a):\n    return isinstance(a, set)\n", "def f(a):\n    return int(a, base=2)\n",
             "def f(a):\n    b = len\n    return b(a)\n", "def f(a):\n    return 2 ** a\n",
+            "def f(a):\n    return g(lambda b: a, lambda b: b)\n", "def f(a):\n    b = {1, 2, 3}\n    return a in b\n",
+            "A = [[1], [2]]\n", "A = {1: [2]}\n", "A = len('a')\n", "if 1:\n    A = 1\n",
+            "A = [1]\ndef f():\n    A.append(2)\n", "A = {1: 2}\ndef f(g):\n    return g(A)\n",
+            "def f(a):\n    for b in a:\n        a.append(b)\n", "def f(a):\n    for b in enumerate(a):\n        a.pop()\n",
             "from clonewood.other import A\n", "from clonewood.one import f\ndef f(a):\n    return a\n",
         ):
             with self.subTest(text):
