@@ -47,6 +47,11 @@ class Deed:
         self.need_spot(path, names, 0)
         self.hang(names, "folder", self.grow(FolderKnot(self.now, 0, ())))
 
+    def bare_file(self, path, size):
+        names = names_below_top(path)
+        self.need_spot(path, names, 0)
+        self.hang_file(names, size, [])
+
     def drop(self, path):
         names = names_below_top(path)
         self.need_there(path, names)

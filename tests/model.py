@@ -180,6 +180,38 @@ class Paths:
         return 1 + len(ways(path))
 
 
+def due_changes(one, other, path=""):
+    """The changes by the words of promise 81, from two readings."""
+    def names(reading):
+        return {here.rpartition("/")[2]: here for here in reading if here and above(here) == path}
+
+    def kind(reading, here):
+        return here in reading and ("folder" if reading[here] is None else "file")
+
+    here = {**names(one), **names(other)}
+    told = [("gone", here[name]) for name in sorted(names(one)) if kind(other, here[name]) != kind(one, here[name])]
+    for name in sorted(names(other)):
+        spot = here[name]
+        comes = kind(one, spot) != kind(other, spot)
+        if other[spot] is None:
+            told += [("folder", spot)] if comes else []
+            told += due_changes({} if comes else one, other, spot)
+            continue
+        old, new = [] if comes else one[spot], other[spot]
+        if comes:
+            told.append(("file", spot, len(new)))
+        elif len(old) != len(new):
+            told.append(("size", spot, len(new)))
+        told += due_runs(spot, (old + [0] * 40)[:len(new)], new)
+    return told
+
+
+def due_runs(path, old, new):
+    signs = "".join("x" if a != b else "." for a, b in zip(old, new))
+    return [("cells", path, at, tuple(new[at:at + len(signs[at:].split(".")[0])])) for at in range(len(signs))
+            if signs[at] == "x" and (at == 0 or signs[at - 1] == ".")]
+
+
 class Requests:
     def __init__(self, chance, model):
         self.chance = chance

@@ -1,13 +1,15 @@
-"""Promises 6, 60 to 69 and 74: any deeds, by counts and by births side by side, with and without falls.
+"""Promises 6, 8, 60 to 69, 74 and 90 to 94: any deeds, by counts and by births side by side, with and without falls.
 
 Each head is held against a tree of paths kept beside it; what lies, rests and is spare against a walk over the pieces.
+Floors are harmed and mended, too; what the looker tells is held against a walk of its own.
 """
 
 import random
 import unittest
 
-from clonewood.errors import PowerGone, WoodError
+from clonewood.errors import PowerGone, Rootless, WoodError
 from clonewood.floor import Floor
+from clonewood.looking import looked, mended
 from clonewood.planting import come_up, planted
 from clonewood.room import limits_at, own, room, shares, weight_at
 from helper import WoodCase, comes_to, points_in, read_head, read_tree
@@ -23,6 +25,7 @@ class AnyWood(WoodCase):
         self.kept = WoodKept("wood", "a")
         self.requests = WoodRequests(self.chance, self.kept)
         self.rests = [set(), set()]
+        self.births = [False, True]
 
     def lying(self, wood):
         return comes_to(wood.floor, [root for name, kind, root in wood.heads()])
@@ -116,7 +119,7 @@ class AnyWood(WoodCase):
         self.all_down(wood)
         floor.power_on()
         self.all_down(wood)
-        found = self.woods[at] = come_up(floor, at == 1)
+        found = self.woods[at] = come_up(floor, self.births[at])
         self.assertEqual([found.stamp, found.heads(), found.lying()], before)
         # Whether the fall was at the top is seen by the place that is spoilt.
         self.rests[at] = set() if self.is_spoilt(floor, (found.stamp + 1) % 2) else self.rests[at]
@@ -176,7 +179,7 @@ class AnyWood(WoodCase):
     def check_going(self):
         """Several heads go, one behind the other: just what was their own together comes free."""
         for at, floor in enumerate(self.floors):
-            wood = come_up(floor.copied(), at == 1)
+            wood = come_up(floor.copied(), self.births[at])
             names = self.chance.sample(sorted(self.kept.heads), self.chance.randint(0, len(self.kept.heads)))
             kept = self.kept.twin_wood()
             freed, gone = [], []
@@ -191,9 +194,77 @@ class AnyWood(WoodCase):
                 freed += wood.go(name)[1]
             self.same(sorted(freed), due)
 
-    def run_through(self, seed, many, steps, falling):
+    def bad_places(self, floor, root):
+        """The words of promises 90 and 91: each way from a root, one by one, to what is due there."""
+        bad = {}
+
+        def go(place, kind, many):
+            try:
+                stuff = floor.read(place)
+            except WoodError as refusal:
+                bad[place] = "nothing" if type(refusal).__name__ == "NoPiece" else "spoilt"
+                return
+            if not isinstance(stuff, tuple) or stuff[0] != kind or kind == "cells" and len(stuff[2]) < many:
+                bad[place] = "odd"
+            elif kind == "folder":
+                for name, below, there in stuff[3]:
+                    go(there, below, 0)
+            elif kind == "file":
+                for begin, long, there, skip in stuff[3]:
+                    go(there, "cells", skip + long)
+
+        go(root, "folder", 0)
+        return bad
+
+    def hurt(self):
+        """Some places of both floors are harmed, lost or odd, both alike; what is told of it, and which heads are whole."""
+        places = sorted(comes_to(self.floors[0], [root for name, kind, root in self.woods[0].heads()]))
+        places = self.chance.sample(places, min(len(places), self.chance.choice((0, 1, 1, 2, 4))))
+        for place in places + self.chance.sample(range(2, self.floors[0].many), 2):
+            way = self.chance.choice(("harm", "lose", "odd"))
+            if place not in places and any(wood.book.lies(place) for wood in self.woods):
+                continue
+            for floor in self.floors:
+                if way == "odd":
+                    floor.write(place, "odd")
+                else:
+                    floor.write(place, "something")
+                    getattr(floor, way)(place)
+        whole = []
+        for wood in self.woods:
+            bad = {}
+            whole = []
+            for name, kind, root in wood.heads():
+                found = self.bad_places(wood.floor, root)
+                whole += [] if found else [name]
+                for place, word in found.items():
+                    bad.setdefault((place, word), []).append(name)
+            told = [(place, word, tuple(bad[place, word])) for place, word in sorted(bad)]
+            self.same(looked(wood.floor), (wood.stamp, told, whole))
+        return whole
+
+    def mend(self):
+        self.kept.mend(self.hurt())
+        rootless = self.kept.rootless()
+        for at, floor in enumerate(self.floors):
+            writes = floor.writes()
+            if rootless is not None:
+                self.refused(Rootless, [rootless], mended, floor, True)
+                self.assertEqual(floor.writes(), writes)
+                self.births[at] = False
+            elif at == 1:
+                self.births[at] = True
+            self.woods[at] = mended(floor, self.births[at])
+            self.rests[at] = set()
+            self.assertEqual(floor.writes()[len(writes):], [(self.kept.stamp - 1) % 2, self.kept.stamp % 2])
+        self.mends[rootless is None] = True
+        self.check(sorted(self.kept.heads))
+
+    def run_through(self, seed, many, steps, falling, mending=0):
         self.begin(seed, many)
         for number in range(steps):
+            if self.chance.random() < mending:
+                self.mend()
             request = self.requests.request()
             cut = self.chance.randint(0, 6) if self.chance.random() < falling else None
             self.step(request, cut)
@@ -208,12 +279,15 @@ class AnyWood(WoodCase):
     def find_again(self):
         for at, floor in enumerate(self.floors):
             wood = self.woods[at]
-            for births in (False, True):
+            rootless = self.kept.rootless()
+            if rootless is not None:
+                self.refused(Rootless, [rootless], come_up, floor, True)
+            for births in (False, True) if rootless is None else (False,):
                 found = come_up(floor, births)
                 self.assertEqual([found.word, found.stamp, found.heads(), found.lying(), found.resting()],
                                  [wood.word, wood.stamp, wood.heads(), wood.lying(), wood.resting()])
             if self.chance.random() < 0.5:
-                self.woods[at] = come_up(floor, at == 1)
+                self.woods[at] = come_up(floor, self.births[at])
 
     def test_any_deeds(self):
         self.ways_used, self.falls = {}, {}
@@ -230,6 +304,13 @@ class AnyWood(WoodCase):
             with self.subTest(seed):
                 self.run_through(seed, self.chance_of_places(seed), 130, 0.35)
         self.assertEqual(sorted(self.falls), [False, True])
+
+    def test_any_deeds_with_mending(self):
+        self.ways_used, self.falls, self.mends = {}, {}, {}
+        for seed in range(200, 210):
+            with self.subTest(seed):
+                self.run_through(seed, self.chance_of_places(seed), 120, 0.1, 0.06)
+        self.assertEqual(sorted(self.mends), [False, True])
 
     def chance_of_places(self, seed):
         return (600, 90, 40, 16)[seed % 4]

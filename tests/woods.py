@@ -104,6 +104,18 @@ class WoodKept:
         lines = {head.line for head in self.heads.values()}
         self.lines = {line: told for line, told in self.lines.items() if line in lines}
 
+    def rootless(self):
+        """The least name of a head of a line that stands on a make that was lost, or None."""
+        lost = [line for line, (base, origin) in self.lines.items() if base and not origin]
+        return min([name for name, head in self.heads.items() if head.line in lost], default=None)
+
+    def mend(self, whole):
+        """Just the heads that are whole stay; a line whose origin is none of them stands on nothing."""
+        self.heads = {name: self.heads[name] for name in whole}
+        self.lines = {line: (base, origin if origin in whole else "") for line, (base, origin) in self.lines.items()}
+        self.clear()
+        self.stamp += 2
+
     def stands_on(self, name):
         head = self.head(name, "growth")
         makes = [(one.stamp, make) for make, one in self.heads.items() if one.line == head.line and one.kind == "make"]
