@@ -2,7 +2,7 @@
 
 from clonewood.errors import NoPiece, NoWood, Spoilt
 from clonewood.stretches import is_tree_place
-from clonewood.words import GREATEST, is_rising, is_within, is_word
+from clonewood.words import GREATEST, is_rising, is_stamp, is_tuple_of, is_within, is_word
 
 MOST_HEADS = 12
 
@@ -33,14 +33,6 @@ def top_of(stamp, word, lines, heads):
 
 def is_number(thing):
     return is_within(thing, 0, GREATEST)
-
-
-def is_stamp(thing):
-    return is_within(thing, 1, GREATEST)
-
-
-def is_tuple_of(thing, many):
-    return isinstance(thing, tuple) and len(thing) == many
 
 
 def is_line(thing):

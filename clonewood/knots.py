@@ -1,7 +1,7 @@
 """Knots: what the pieces of a tree bear."""
 
 from clonewood.stretches import MOST_CELLS, PIECE_CELLS, is_row, is_tree_place, places_in
-from clonewood.words import GREATEST, is_rising, is_within, is_word
+from clonewood.words import is_rising, is_stamp, is_tuple_of, is_within, is_word
 
 MOST_CELL = 999999
 MOST_LIMIT = 999
@@ -104,7 +104,7 @@ def is_file_stuff(thing):
 
 
 def is_entry(thing):
-    if not isinstance(thing, tuple) or len(thing) != 3:
+    if not is_tuple_of(thing, 3):
         return False
     return is_word(thing[0]) and thing[1] in ("folder", "file") and is_tree_place(thing[2])
 
@@ -118,7 +118,7 @@ def is_folder_stuff(thing):
 
 
 def is_knot(thing):
-    if not isinstance(thing, tuple) or len(thing) < 2 or not is_within(thing[1], 1, GREATEST):
+    if not isinstance(thing, tuple) or len(thing) < 2 or not is_stamp(thing[1]):
         return False
     if thing[0] == "cells":
         return is_cells_stuff(thing)

@@ -4,11 +4,10 @@ from clonewood.changes import changes
 from clonewood.checks import check_of
 from clonewood.errors import BadRow, Crowded, NoBase, NoPath, NoSpan, NotFile, NotThere, There
 from clonewood.growing import names_below_top, need_within_size
-from clonewood.heads import is_stamp, is_tuple_of
 from clonewood.knots import is_cell
 from clonewood.stretches import MOST_CELLS
 from clonewood.trees import seek_file
-from clonewood.words import is_whole, is_within, is_word
+from clonewood.words import is_stamp, is_tuple_of, is_whole, is_within, is_word
 
 
 def sent(wood, first, second):

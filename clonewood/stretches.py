@@ -3,7 +3,7 @@
 A stretch is a tuple (at, long, place, skip), a row a list or a tuple of stretches.
 """
 
-from clonewood.words import is_whole, is_within
+from clonewood.words import is_tuple_of, is_whole, is_within
 
 MOST_CELLS = 40
 PIECE_CELLS = 8
@@ -100,9 +100,7 @@ def is_tree_place(thing):
 
 
 def is_stretch(thing):
-    if not isinstance(thing, tuple) or len(thing) != 4:
-        return False
-    if not all([is_whole(number) for number in thing]):
+    if not is_tuple_of(thing, 4) or not all([is_whole(number) for number in thing]):
         return False
     if thing[AT] < 0 or thing[LONG] < 1 or thing[SKIP] < 0:
         return False

@@ -152,8 +152,8 @@ class Wood:
 
     def spare(self):
         self.need_up()
-        taken = self.book.lying() + self.rest
-        return [place for place in range(FIRST_PLACE, self.floor.many) if place not in taken]
+        free = [place for place in range(FIRST_PLACE, self.floor.many) if not self.book.lies(place)]
+        return [place for place in free if place not in self.rest]
 
     def need_up(self):
         if self.down:

@@ -17,6 +17,14 @@ def is_within(thing, low, high):
     return is_whole(thing) and low <= thing <= high
 
 
+def is_stamp(thing):
+    return is_within(thing, 1, GREATEST)
+
+
+def is_tuple_of(thing, many):
+    return isinstance(thing, tuple) and len(thing) == many
+
+
 def is_rising(things):
     return all([one < other for one, other in zip(things, things[1:])])
 

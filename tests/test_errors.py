@@ -89,6 +89,11 @@ class TheFields(unittest.TestCase):
             with self.subTest(name):
                 self.assertEqual(vars(class_of(name)(**told)), told)
 
+    def test_what_each_tells(self):
+        for name, fields in FIELDS.items():
+            with self.subTest(name):
+                self.assertEqual(made(name).told(), [name, *("one", 2)[:len(fields)]])
+
     def test_a_field_is_the_very_thing_handed_in(self):
         for name, fields in FIELDS.items():
             things = ([], {})
